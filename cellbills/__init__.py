@@ -1,0 +1,1 @@
+"""cellbills: a typed language without a collector, its compiler, and its bills."""
