@@ -20,7 +20,7 @@ def fits(symbol, token):
     """Tell whether a token is what the grammar wants."""
     sort, row = token[:2]
     if symbol == "K":
-        return sort == "word" or (sort == "sign" and row in ("num", "flag"))
+        return sort == "word" or row in ("num", "flag")
     if symbol == "N":
         return sort == "number" and int(row) <= GREATEST
     if symbol == "M":

@@ -13,6 +13,7 @@ OTHERS = [
     ("turn", [("x", "list"), ("y", "list")], "list", ("drop", "x", ("end", "y"))),
     ("bare", [], "tree", ("flag", "b", True, ("make", "t", "leaf", ("b",), ("end", "t")))),
     ("wide", [(f"p{n}", "num") for n in range(6)], "num", ("end", "p0")),
+    ("five", [(f"p{n}", "num") for n in range(5)], "num", ("end", "p0")),
     ("eight", [(f"p{n}", "num") for n in range(8)], "num", ("end", "p0")),
 ]
 NAMES = [("n", "num"), ("m", "num"), ("c", "flag"), ("d", "flag")]
@@ -198,6 +199,7 @@ class StepTest(unittest.TestCase):
             return ("keep", x, kind, f, ys, ("end", x))
         lists = [("l", "list")]
         self.right(keep("step", "add", ("n",)), answer="step")
+        self.right(keep("step", "five", ("n",) * 4), answer="step")
         self.right(keep("join", "turn", ("l",)), lists, "join")
         self.right(keep("plant", "bare", ()), answer="plant")
         for kind in ("list", "num", "flag", "none"):
@@ -400,6 +402,8 @@ class WholeTest(unittest.TestCase):
             ("form", ("choice", "K", [])), ("form", ("choice", "K", [("A", ["q"])] * 9)),
             ("form", ("choice", "K", [("A", ["q"] * 5)])), ("form", ("calls", "K", ["q"] * 5, "q")),
             ("form", ["choice", "l", [("c", [])]]), ("form", ("calls", "K", [], 5)), ("form", None),
+            ("form", ("choice", 5, [("A", ["q"])])), ("form", ("choice", "K", [(5, ["q"])])),
+            ("form", ("calls", 5, ["q"], "q")), ("form", ("choice", "K", [("A", "q")])),
             ("name", ("choice", "K", [("a", ["q"])])), ("name", ("choice", "k", [("A", ["q"])])),
             ("name", ("calls", "num", ["q"], "q")), ("name", ("choice", "l" * 31, [("c", [])])),
             ("name", ("choice", "l", [("a", []), ("flag", [])])),

@@ -11,6 +11,7 @@ PROGRAM = ("program", KINDS, [
     ("one", [("x", "num")], "num", ("end", "x")),
     ("turn", [("x", "list"), ("b", "flag"), ("y", "list")], "list", ("drop", "x", ("end", "y"))),
     ("bare", [], "tree", ("flag", "b", True, ("make", "t", "leaf", ("b",), ("end", "t")))),
+    ("five", [(f"p{n}", "num") for n in range(5)], "num", ("end", "p0")),
     ("wide", [(f"p{n}", "num") for n in range(6)], "num", ("end", "p0")),
 ])
 LEAF = ("node", "leaf", (True,))
@@ -50,9 +51,11 @@ class IsValueTest(unittest.TestCase):
         self.assertEqual(is_of("join", ("kept", "turn", (row([1]), False))), [True])
         self.assertEqual(is_of("join", ("kept", "turn", (row([1]),)), ("kept", "turn", (row([1]), 0)),
                                ("kept", "turn", (NIL, True, NIL))), [False] * 3)
-        self.assertEqual(is_of("plant", ("kept", "bare", ()), ("kept", "one", ())), [True, False])
+        self.assertEqual(is_of("plant", ("kept", "bare", ()), ("kept", "one", ()), ("kept", "bare", (1,))),
+                         [True, False, False])
 
     def test_at_most_four_parts(self):
+        self.assertEqual(is_of("step", ("kept", "five", (1,) * 4), ("kept", "five", (1,) * 3)), [True, False])
         # It takes five numbers to make the function with six parameters one that wants one.
         self.assertEqual(is_of("step", ("kept", "wide", (1,) * 5), ("kept", "wide", (1,) * 4)), [False] * 2)
 
