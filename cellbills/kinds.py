@@ -128,8 +128,12 @@ def come_to(makers, name):
     return found
 
 
-def reached(kinds, name):
-    """Return the constructors of all choice kinds to which one comes, as declared."""
-    makers = asked_makers(kinds, name)
+def reached_in(makers, name):
+    """Return the constructors of the choice kinds to which one of a dict of them comes."""
     found = come_to(makers, name)
     return [maker[0] for kind in makers for maker in makers[kind] if kind in found]
+
+
+def reached(kinds, name):
+    """Return the constructors of all choice kinds to which one comes, as declared."""
+    return reached_in(asked_makers(kinds, name), name)

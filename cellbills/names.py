@@ -59,23 +59,40 @@ def frame_cost(step):
     return cost_of_keeping(step[0], many)
 
 
+def free_behind(row, waiting):
+    """Take the names free in the ends of a row from a stack; return those free behind it."""
+    used = {}
+    for names in bound_names(row):
+        behind = waiting.pop()
+        for name in names:
+            behind.pop(name, None)
+        # The greater one takes the other one in, or long bodies cost their square.
+        if len(behind) > len(used):
+            used, behind = behind, used
+        used.update(behind)
+    return used
+
+
 def kept_by_rows(rows):
     """Return for each row of a right body the names that it keeps, in order."""
     kept, waiting = [], []
     for row in rows[::-1]:
-        used = {}
-        for names in bound_names(row):
-            behind = waiting.pop()
-            for name in names:
-                behind.pop(name, None)
-            # The greater one takes the other one in, or long bodies cost their square.
-            if len(behind) > len(used):
-                used, behind = behind, used
-            used.update(behind)
+        used = free_behind(row, waiting)
         kept.append(sorted(used) if row[0] in KEEPING else [])
         used.update({name: True for name in used_names(row)})
         waiting.append(used)
     return kept[::-1]
+
+
+def free_by_rows(rows):
+    """Return for each row of a right body the names that are free in its step, in order."""
+    free, waiting = [], []
+    for row in rows[::-1]:
+        used = free_behind(row, waiting)
+        used.update({name: True for name in used_names(row)})
+        free.append(sorted(used))
+        waiting.append(used)
+    return free[::-1]
 
 
 def pass_step(table, row, end, scope):

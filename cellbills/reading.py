@@ -14,36 +14,60 @@ WANT = ("want",)
 class Reading:
     """Where a reading stands: its step, the names bound there, frames, and cells in hand."""
 
-    def __init__(self, program, name, arguments, hand):
-        self.functions = {function[0]: function for function in program[2]}
+    def __init__(self, program, hand):
+        self.numbers = {function[0]: number for number, function in enumerate(program[2])}
+        self.functions = program[2]
         # Plans are made when a function is first come to: most readings need a few alone.
         self.plans = {}
         self.hand = hand
+        # The fewest that were in hand behind what a step took.
+        self.fewest = hand
         self.frames = []
-        self.begin(name, arguments)
+        self.plan = None
+        self.number = 0
+        self.bound = {}
+
+    def plan_of(self, number):
+        """Return the plan of the function with a number."""
+        if number not in self.plans:
+            self.plans[number] = Plan(number, self.functions[number])
+        return self.plans[number]
 
     def begin(self, name, arguments):
         """Begin a function."""
-        if name not in self.plans:
-            self.plans[name] = Plan(self.functions[name])
-        self.plan = self.plans[name]
+        self.plan = self.plan_of(self.numbers[name])
         self.number = 0
         self.bound = dict(zip(self.plan.parameters, arguments))
+
+    def row(self):
+        """Return the row of the step that is read next."""
+        return self.plan.rows[self.number]
 
     def things(self, names):
         """Return the tuple of what names are bound to."""
         return tuple([self.bound[name] for name in names])
 
+    def owned(self, sort, tag, parts):
+        """Return a node or a kept function."""
+        return sort, tag, parts
+
     def go_on(self, end):
         """Go on with an end of the step that was read."""
         self.number = self.plan.links[self.number][end]
 
-    def set_aside(self):
-        """Take the cells of a frame and lay it; return whether they were in hand."""
-        cost = self.plan.costs[self.number]
+    def pay(self, cost):
+        """Take cells; return whether they were in hand."""
         if cost > self.hand:
             return False
         self.hand -= cost
+        if self.hand < self.fewest:
+            self.fewest = self.hand
+        return True
+
+    def set_aside(self):
+        """Take the cells of a frame and lay it; return whether they were in hand."""
+        if not self.pay(self.plan.costs[self.number]):
+            return False
         self.frames.append((self.plan, self.number, self.bound))
         return True
 
@@ -66,30 +90,29 @@ def read_deed(reading, row):
     reading.go_on(0)
 
 
-def bind_owned(reading, name, thing):
-    """Bind a name to a new node or kept function."""
-    cost = 1 if thing[2] else 0
-    if cost > reading.hand:
+def bind_owned(reading, name, sort, tag, names):
+    """Bind a name to a new node or kept function of what names are bound to."""
+    if not reading.pay(1 if names else 0):
         return WANT
-    reading.hand -= cost
-    reading.bound[name] = thing
+    reading.bound[name] = reading.owned(sort, tag, reading.things(names))
     reading.go_on(0)
     return None
 
 
 def read_make(reading, row):
     """Read a make."""
-    return bind_owned(reading, row[1], ("node", row[2], reading.things(row[3])))
+    return bind_owned(reading, row[1], "node", row[2], row[3])
 
 
 def read_keep(reading, row):
     """Read a keep."""
-    return bind_owned(reading, row[1], ("kept", row[3], reading.things(row[4])))
+    return bind_owned(reading, row[1], "kept", row[3], row[4])
 
 
 def read_take(reading, row):
     """Read a take."""
-    _, tag, parts = reading.bound[row[1]]
+    thing = reading.bound[row[1]]
+    tag, parts = thing[1], thing[2]
     end = [own for own, _ in row[2]].index(tag)
     for name, part in zip(row[2][end][1], parts):
         reading.bound[name] = part
@@ -113,9 +136,8 @@ def read_go(reading, row):
 
 def enter(reading, thing, arguments):
     """Begin the function of a kept function, whose cell is given back."""
-    _, name, parts = thing
-    reading.hand += 1 if parts else 0
-    reading.begin(name, parts + arguments)
+    reading.hand += 1 if thing[2] else 0
+    reading.begin(thing[1], thing[2] + arguments)
 
 
 def read_use(reading, row):
@@ -189,7 +211,7 @@ READERS = {
 
 def read_step(reading):
     """Read a step; return the outcome if the reading ends with it, otherwise None."""
-    row = reading.plan.rows[reading.number]
+    row = reading.row()
     reader = READERS[row[0]]
     return reader(reading, row)
 
@@ -203,26 +225,54 @@ def are_arguments(program, name, value):
     return all([is_of_kind(table, kind, thing) for kind, thing in zip(kinds, value)])
 
 
+def ask_arguments(program, name, arguments):
+    """Raise the error unless a value is a list of right arguments of a function."""
+    if not are_arguments(program, name, arguments):
+        raise InvalidList(arguments)
+
+
 def ask_reading(program, name, arguments):
     """Raise the error for the first one that is wrong of what each reading is given."""
     ask_program(program)
     function_number(program, name)
-    if not are_arguments(program, name, arguments):
-        raise InvalidList(arguments)
+    ask_arguments(program, name, arguments)
+
+
+def ask_hand(hand):
+    """Raise the error unless a value may be the cells in hand."""
+    if not is_count(hand):
+        raise InvalidNumber(hand)
+
+
+def ask_steps(steps, most):
+    """Raise the error unless a value is a count of at most so many steps."""
+    if not is_count(steps) or steps > most:
+        raise InvalidNumber(steps)
+
+
+def begun(program, name, arguments, hand):
+    """Return the reading that stands at the first step of a function."""
+    reading = Reading(program, hand)
+    reading.begin(name, arguments)
+    return reading
+
+
+def read_on(reading, steps):
+    """Read at most so many steps; return the outcome and how many were read."""
+    for many in range(steps):
+        outcome = read_step(reading)
+        if outcome == WANT:
+            return WANT, many
+        if outcome is not None:
+            return outcome, many + 1
+    return ("on",), steps
 
 
 def read(program, name, arguments, hand, steps):
     """Read at most so many steps; return the outcome, the cells in hand and how many were."""
     ask_reading(program, name, arguments)
-    if not is_count(hand):
-        raise InvalidNumber(hand)
-    if not is_count(steps) or steps > MOST_STEPS_READ:
-        raise InvalidNumber(steps)
-    reading = Reading(program, name, arguments, hand)
-    for many in range(steps):
-        outcome = read_step(reading)
-        if outcome == WANT:
-            return WANT, reading.hand, many
-        if outcome is not None:
-            return outcome, reading.hand, many + 1
-    return ("on",), reading.hand, steps
+    ask_hand(hand)
+    ask_steps(steps, MOST_STEPS_READ)
+    reading = begun(program, name, arguments, hand)
+    outcome, many = read_on(reading, steps)
+    return outcome, reading.hand, many

@@ -143,6 +143,26 @@ def places_of_rows(links, first):
     return places
 
 
+def row_at(links, place):
+    """Return the number of the row of the step at a place of a function, or None."""
+    at = 0
+    for end in place[3:]:
+        if end >= len(links[at]):
+            return None
+        at = links[at][end]
+    return at
+
+
+def place_along(links, first, at):
+    """Return the place of the step of a row, the place of the first one of which is given."""
+    ends = []
+    for ahead in reversed(range(at)):
+        if at in links[ahead]:
+            ends.append(links[ahead].index(at))
+            at = ahead
+    return first + tuple(ends[::-1])
+
+
 def used_names(row):
     """Return the tuple of the names that a step uses, in the order in which they stand."""
     head = row[0]
@@ -159,6 +179,11 @@ def used_names(row):
     if head == "usego":
         return row[1:2] + row[2]
     return row[1:2]
+
+
+def argument_names(row):
+    """Return the tuple of the names that a step hands to the function it calls or goes to."""
+    return row[2] if row[0] in ("go", "usego") else row[3]
 
 
 def bound_names(row):

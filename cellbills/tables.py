@@ -2,6 +2,7 @@
 
 from cellbills.kinds import choice_makers
 from cellbills.numbers import sign_shape
+from cellbills.steps import bound_names
 
 # Stand in the place of a kind where any kind of a sort will do; no kind is called so.
 ANY = "*"
@@ -105,6 +106,16 @@ def bound_kinds(table, row, scope):
     if head == "try":
         return [[bound_kind(table, row, scope)], ["num"]]
     return [[bound_kind(table, row, scope)]]
+
+
+def kinds_of_names(table, parameters, rows):
+    """Return a dict of the kinds of all names of a right body, whose parameters are told."""
+    scope = {name: kind for name, kind in parameters}
+    for row in rows:
+        for names, kinds in zip(bound_names(row), bound_kinds(table, row, scope)):
+            for name, kind in zip(names, kinds):
+                scope[name] = kind
+    return scope
 
 
 def answer_kind(table, row, scope):

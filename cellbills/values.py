@@ -90,6 +90,12 @@ def is_value(program, kind, value):
     return is_of_kind(table, kind, value)
 
 
+def are_same(value, told):
+    """Tell whether a value is just what is told, which is made of things, lists and tuples."""
+    # True is equal to 1, but not written so.
+    return value == told and repr(value) == repr(told)
+
+
 def cells_of(thing):
     """Return how many cells a thing takes that is known to be one."""
     waiting, cells = [thing], 0
