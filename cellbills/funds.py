@@ -5,7 +5,7 @@ rates stand in its fund: by a constructor for those of the table by which it is 
 tuple (function, number, constructor) for those of the table of a function's argument.
 """
 
-from cellbills.values import is_plain
+from cellbills.values import is_plain, rebuilt
 
 
 def weighed_of(sort, tag, parts):
@@ -23,22 +23,14 @@ def weighed_of(sort, tag, parts):
     return sort, tag, parts, weights
 
 
+def weighed_like(thing, parts):
+    """Return a thing weighed, whose parts are weighed already."""
+    return weighed_of(thing[0], thing[1], parts)
+
+
 def weighed(thing):
     """Return a thing with all things in it weighed."""
-    waiting, done = [(thing, False)], []
-    while waiting:
-        part, ready = waiting.pop()
-        if is_plain(part):
-            done.append(part)
-        elif ready:
-            first = len(done) - len(part[2])
-            parts = tuple(done[first:])
-            del done[first:]
-            done.append(weighed_of(part[0], part[1], parts))
-        else:
-            waiting.append((part, True))
-            waiting.extend([(own, False) for own in part[2][::-1]])
-    return done[0]
+    return rebuilt(thing, weighed_like)
 
 
 def fund_of(tariff, table, thing):

@@ -34,7 +34,7 @@ class Ahead:
 
         Partners tell the takes of the things that are made ahead.
         """
-        used = []
+        used = {}
         ahead = self.rows_ahead[made]
         while ahead is not None:
             at, end = ahead
@@ -43,7 +43,7 @@ class Ahead:
             if self.is_made(at):
                 if at not in partners:
                     return None
-                used.append(partners[at])
+                used[partners[at]] = True
             if self.leaves_cell(at, end) and at not in used:
                 return at
             ahead = self.rows_ahead[at]

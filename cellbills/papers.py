@@ -2,27 +2,28 @@
 
 from cellbills.checker import ask_program, is_step_place
 from cellbills.errors import InvalidPaper
+from cellbills.marks import Marking, is_just
 from cellbills.names import KEEPING
 from cellbills.numbers import is_count
 from cellbills.plans import free_at, kinds_in, place_at
 from cellbills.reading import Reading, ask_hand, ask_reading, ask_steps, begun, read_step
 from cellbills.steps import row_at
 from cellbills.tables import bound_kind, table_of
-from cellbills.values import are_same, is_of_kind
+from cellbills.values import is_of_kind
 
 MOST_STEPS_TRACED = 400
 
 
-def bound_pairs(names, bound):
+def told_pairs(reading, names, bound):
     """Return the list of the names, each with the thing to which it is bound."""
-    return [(name, bound[name]) for name in names]
+    return [(name, reading.told(bound[name])) for name in names]
 
 
 def state_of(reading):
     """Return the state in which a reading stands."""
-    frames = [(place_at(plan, at), bound_pairs(plan.kept[at], bound))
+    frames = [(place_at(plan, at), told_pairs(reading, plan.kept[at], bound))
               for plan, at, bound in reading.frames]
-    names = bound_pairs(free_at(reading.plan, reading.number), reading.bound)
+    names = told_pairs(reading, free_at(reading.plan, reading.number), reading.bound)
     return place_at(reading.plan, reading.number), names, frames, reading.hand
 
 
@@ -36,6 +37,11 @@ def are_pairs(value, names, kinds, table):
         if not is_of_kind(table, kinds[name], pair[1]):
             return False
     return True
+
+
+def noted_pairs(reading, pairs):
+    """Return the dict of the things of a list of names with them, as a reading holds them."""
+    return {name: reading.noted(thing) for name, thing in pairs}
 
 
 def stand_at(reading, program, place):
@@ -65,32 +71,32 @@ def lay_frame(reading, program, table, value, awaited):
         return None
     if not are_pairs(value[1], plan.kept[at], kinds, table):
         return None
-    reading.frames.append((plan, at, {name: thing for name, thing in value[1]}))
+    reading.frames.append((plan, at, noted_pairs(reading, value[1])))
     return bound_kind(table, row, kinds)
 
 
-def reading_at(program, value):
-    """Return the reading that stands in a state of a program, or None if a value is none."""
+def stand_in(reading, program, value):
+    """Let a new reading stand in a state of a program; return whether a value is one."""
     if not isinstance(value, tuple) or len(value) != 4:
-        return None
+        return False
     place, names, frames, hand = value
     if not isinstance(frames, list) or not is_count(hand):
-        return None
-    reading, table = Reading(program, hand), table_of(program)
-    awaited = None
+        return False
+    table, awaited = table_of(program), None
     for frame in frames:
         awaited = lay_frame(reading, program, table, frame, awaited)
         if awaited is None:
-            return None
+            return False
     if not stand_at(reading, program, place):
-        return None
+        return False
     plan = reading.plan
     if awaited not in (None, plan.answer):
-        return None
+        return False
     if not are_pairs(names, free_at(plan, reading.number), kinds_in(plan, table), table):
-        return None
-    reading.bound = {name: thing for name, thing in names}
-    return reading
+        return False
+    reading.hand = hand
+    reading.bound = noted_pairs(reading, names)
+    return True
 
 
 def read_to_state(reading):
@@ -111,8 +117,8 @@ def first_state(program, name, arguments, hand):
 def next_state(program, state):
     """Return the state behind a state, or the outcome if the reading ends with its step."""
     ask_program(program)
-    reading = reading_at(program, state)
-    if reading is None:
+    reading = Reading(program, 0)
+    if not stand_in(reading, program, state):
         raise InvalidPaper(state)
     return read_to_state(reading)[0]
 
@@ -120,7 +126,7 @@ def next_state(program, state):
 def is_state(program, value):
     """Tell whether a value is a state of a program."""
     ask_program(program)
-    return reading_at(program, value) is not None
+    return stand_in(Reading(program, 0), program, value)
 
 
 def trace(program, name, arguments, hand, steps):
@@ -138,19 +144,49 @@ def trace(program, name, arguments, hand, steps):
     return found
 
 
+def are_just(pairs, names, bound):
+    """Tell whether pairs that are equal to what names are bound to are just the same."""
+    return all([is_just(pair[1], bound[name]) for pair, name in zip(pairs, names)])
+
+
+def is_state_told(item, reading):
+    """Tell whether an item is the very state in which a marking reading stands."""
+    told = state_of(reading)
+    if item != told:
+        return False
+    numbers = (told[0], [place for place, _ in told[2]], told[3])
+    # Equal numbers that are written alike are no flags.
+    if repr((item[0], [place for place, _ in item[2]], item[3])) != repr(numbers):
+        return False
+    for (_, pairs), (plan, at, bound) in zip(item[2], reading.frames):
+        if not are_just(pairs, plan.kept[at], bound):
+            return False
+    return are_just(item[1], free_at(reading.plan, reading.number), reading.bound)
+
+
+def is_outcome_told(item, reading, outcome):
+    """Tell whether an item is the very outcome with which a marking reading ended."""
+    if len(outcome) == 1:
+        return item == outcome
+    return item == (outcome[0], reading.told(outcome[1])) and is_just(item[1], outcome[1])
+
+
 def is_trace(program, value):
     """Tell whether a value is a list that begins with a state and goes on as reading does."""
     ask_program(program)
     if not isinstance(value, list) or not value:
         return False
-    reading = reading_at(program, value[0])
-    if reading is None:
+    reading, outcome = Marking(program, 0), None
+    if not stand_in(reading, program, value[0]):
         return False
-    ended = False
     for item in value[1:]:
-        if ended:
+        if outcome is not None:
             return False
-        told, ended = read_to_state(reading)
-        if not are_same(item, told):
+        outcome = read_step(reading)
+        if outcome is None:
+            is_told = is_state_told(item, reading)
+        else:
+            is_told = is_outcome_told(item, reading, outcome)
+        if not is_told:
             return False
     return True

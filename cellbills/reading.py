@@ -51,6 +51,14 @@ class Reading:
         """Return a node or a kept function."""
         return sort, tag, parts
 
+    def noted(self, thing):
+        """Return a thing as this reading holds it."""
+        return thing
+
+    def told(self, thing):
+        """Return a thing that this reading holds as it is told."""
+        return thing
+
     def go_on(self, end):
         """Go on with an end of the step that was read."""
         self.number = self.plan.links[self.number][end]

@@ -18,6 +18,10 @@ class Weighing(Reading):
         """Return a weighed node or kept function."""
         return weighed_of(sort, tag, parts)
 
+    def noted(self, thing):
+        """Return a thing as this reading holds it."""
+        return weighed(thing)
+
 
 class Asking:
     """What a bill asks for along a reading; all sums are scaled to whole numbers."""
@@ -104,7 +108,7 @@ def slacks(program, bill, name, arguments, hand, steps):
     ask_hand(hand)
     ask_steps(steps, MOST_STEPS_TRACED)
     asking, reading = Asking(program, bill), Weighing(program, hand)
-    reading.begin(name, [weighed(thing) for thing in arguments])
+    reading.begin(name, [reading.noted(thing) for thing in arguments])
     found = []
     for number in range(steps + 1):
         slack = reading.hand * asking.scale - asking.asked(reading)

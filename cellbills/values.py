@@ -90,10 +90,22 @@ def is_value(program, kind, value):
     return is_of_kind(table, kind, value)
 
 
-def are_same(value, told):
-    """Tell whether a value is just what is told, which is made of things, lists and tuples."""
-    # True is equal to 1, but not written so.
-    return value == told and repr(value) == repr(told)
+def rebuilt(thing, make):
+    """Return what comes of a thing, part by part: `make` gets each one and what came of its parts."""
+    waiting, done = [(thing, False)], []
+    while waiting:
+        part, ready = waiting.pop()
+        if is_plain(part):
+            done.append(part)
+        elif ready:
+            first = len(done) - len(part[2])
+            parts = tuple(done[first:])
+            del done[first:]
+            done.append(make(part, parts))
+        else:
+            waiting.append((part, True))
+            waiting.extend([(own, False) for own in part[2][::-1]])
+    return done[0]
 
 
 def cells_of(thing):
