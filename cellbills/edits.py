@@ -95,7 +95,7 @@ def do_reckoned(_, look, at):
 def can_dead(_, look, at):
     """Tell whether a number or a flag is bound that no step uses."""
     row = look.rows[at]
-    return row[0] in ("num", "flag", "deed") and row[1] not in look.first_use
+    return row[0] in ("num", "flag", "deed") and row[1] not in look.users
 
 
 def do_dead(_, look, at):

@@ -16,11 +16,8 @@ class Look:
         self.name, self.parameters = function[:2]
         self.rows = rows
         self.links = links_of(rows)
-        self.first_use = {}
-        for at, row in enumerate(rows):
-            for name in used_names(row):
-                if name not in self.first_use:
-                    self.first_use[name] = at
+        # Of each name a row that uses it: of an owned one the only one, if it follows plainly.
+        self.users = {name: at for at, row in enumerate(rows) for name in used_names(row)}
         # Of each row, the first one from it on that is not plain.
         self.stops = list(range(len(rows)))
         for at in reversed(range(len(rows) - 1)):
@@ -34,7 +31,7 @@ class Look:
     def plain_user(self, at):
         """Return the row that uses what a row with one end binds if it follows plainly, or None."""
         # Plain steps have one end each, so their rows stand one behind the other.
-        user = self.first_use.get(self.rows[at][1])
+        user = self.users.get(self.rows[at][1])
         if user is None or user > self.stops[at + 1]:
             return None
         return user

@@ -130,6 +130,10 @@ class ToldTest(Checks, unittest.TestCase):
             fun h(s: step): join = drop s; let x = 5; raise x fun five(): num = 5""")
         names = unknowns(program)
         _, bill = bill_or_refusal(program)
+        # Of arguments more is never too much: so all rates can be unlike.
+        bill = [(2 * number + 41, 2) if name[2] == "argument" and name[0] == "function" else amount
+                for number, (name, amount) in enumerate(zip(names, bill))]
+        self.assertTrue(is_bill(program, bill))
         arguments, answer, wants, leaves, fault = self.told(signature, program, bill, "g")
         told = dict(zip(names, bill))
         self.assertEqual(len(names), len(bill))

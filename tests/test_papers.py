@@ -288,6 +288,39 @@ class TracesTest(Checks, unittest.TestCase):
         place = (True,) + told[1][0][1:]
         self.is_told(False, is_trace, PROGRAM, [told[0], (place,) + told[1][1:]])
 
+    def test_flags_within_things(self):
+        def swapped(value):
+            """Yield equal values in which one number is a flag."""
+            if value in (0, 1) and not isinstance(value, tuple):
+                yield bool(value)
+            for at, part in enumerate(value if isinstance(value, (list, tuple)) else ()):
+                for other in swapped(part):
+                    yield value[:at] + type(value)([other]) + value[at + 1:]
+        program = read_text("""kind list = nil[] | cons[num, list] kind pair = two[list, list]
+            calls step = (num) to num
+            fun f(x: list, y: list): pair = let g = keep step add(one()); let a = g2(g, y); two[x, cons[a, nil[]]]
+            fun one(): num = 1
+            fun g2(g: step, y: list): num = match y { nil[]: use g(0) cons[h, t]: drop t; let c = h < h; use g(h) }
+            fun add(a: num, b: num): num = a + b""")
+        told = trace(program, "f", [row([1, 0, 2]), row([0, 1])], 9, 400)
+        self.assertEqual(told[-1], ("value", ("node", "two", (row([1, 0, 2]), row([1])))))
+        many = 0
+        for number in range(1, len(told)):
+            for item in swapped(told[number]):
+                self.assertEqual(item, told[number])
+                self.is_told(False, is_trace, program, told[:number] + [item] + told[number + 1:])
+                many += 1
+        self.assertGreater(many, 100)
+        # The other way round: a flag for which a number is told.
+        tree = ("node", "leaf", (False,))
+        program = ("program", KINDS, [("f", [("t", "tree")], "tree", ("num", "n", 0, ("end", "t")))])
+        told = trace(program, "f", [tree], 0, 400)
+        self.is_told(True, is_trace, program, told)
+        self.is_told(False, is_trace, program, told[:2] + [("value", ("node", "leaf", (0,)))])
+        wrong = (told[1][0], [("n", 0), ("t", ("node", "leaf", (0,)))][1:], [], 0)
+        self.assertEqual(wrong, told[1])
+        self.is_told(False, is_trace, program, [told[0], wrong])
+
     def test_against_another_look(self):
         ended = set()
         for seed in range(60):
