@@ -2,10 +2,9 @@
 
 from cellbills.errors import InvalidPaper
 from cellbills.live import asked_rows
+from cellbills.names import KEEPING
 from cellbills.numbers import is_count
 from cellbills.steps import links_of
-
-CALLING = ("call", "use", "try")
 
 
 class Ahead:
@@ -38,7 +37,7 @@ class Ahead:
         ahead = self.rows_ahead[made]
         while ahead is not None:
             at, end = ahead
-            if self.rows[at][0] in CALLING:
+            if self.rows[at][0] in KEEPING:
                 return None
             if self.is_made(at):
                 if at not in partners:
@@ -56,7 +55,7 @@ class Ahead:
             at, end = ahead
             if at == taken:
                 return self.leaves_cell(at, end)
-            if self.rows[at][0] in CALLING:
+            if self.rows[at][0] in KEEPING:
                 return False
             if self.is_made(at) and partners.get(at, taken) == taken:
                 return False
