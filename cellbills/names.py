@@ -3,7 +3,7 @@
 from cellbills.bodies import MOST_STEPS
 from cellbills.checker import ask_program, function_number, steps_to
 from cellbills.errors import InvalidRows
-from cellbills.steps import bound_names, called_function, count_ends, ends_of
+from cellbills.steps import bound_names, called_function, ends_of
 from cellbills.steps import formed_rows, row_of, rows_of, used_names
 from cellbills.tables import bound_kinds, is_owned, table_of
 

@@ -14,7 +14,7 @@ from tests.checks import Checks, spoilt
 from tests.list_programs import list_arguments, list_program
 from tests.plain_rules import Told
 from tests.samples import EMPTY, KINDS, LISTS, NIL, ODD, random_program, random_thing, row
-from tests.test_judged import BILL, HALF, LOOP, TWICE, ZERO
+from tests.test_judged import HALF, LOOP, TWICE, ZERO
 
 EVER = read_text("""kind list = nil[] | cons[num, list]
     fun ever(n: num): list = let r = ever(n); cons[n, r]""")

@@ -103,8 +103,8 @@ class FractionsTest(Checks, unittest.TestCase):
         found, refusal = bill_or_refusal(ever)
         self.assertEqual(found, "refusal")
         self.is_told(True, is_refusal, ever, refusal)
-        rows = inequalities(ever)
-        for at, (_, counts, _) in enumerate(rows):
+        rows, told = inequalities(ever), set()
+        for at in range(len(rows)):
             more = list(refusal)
             more[at] = (refusal[at][0] + refusal[at][1], refusal[at][1])
             sums = {}
@@ -114,6 +114,9 @@ class FractionsTest(Checks, unittest.TestCase):
             least = sum(row[2] * amount[0] * 1000 // amount[1] for row, amount in zip(rows, more))
             good = least > 0 and all(own <= 0 for own in sums.values())
             self.assertIs(is_refusal(ever, more), good)
+            told.add((least > 0, good))
+        self.assertIn((True, False), told)
+        self.assertIn((True, True), told)
 
     def test_never_both(self):
         for seed in range(40):
