@@ -44,12 +44,23 @@ fun walk(t: tree, n: num): list = match t { leaf[c]: nil[] fork[l, m, r]: let a 
 fun ever(l: list, n: num): num = go ever(l, n)
 fun beyond(n: num): list = let x = cons[n, nil[]]; drop x; go cell(n)
 fun lost(n: num): list = let a = beyond(n); drop a; go cell(n)
+fun double(l: list): list = match l { nil[]: nil[] cons[h, t]: let r = double(t); cons[h, cons[h, r]] }
+fun both(x: list, y: list): list = let a = double(x); let b = double(y); drop a; b
+fun held(x: list, y: list, n: num): list = let g = keep make doubled(y); let a = double(x); go use g(n, a)
+fun doubled(y: list, n: num, a: list): list = drop a; let r = double(y); cons[n, r]
+fun caught(x: list, y: list, n: num): list = try a = failed(x, n) then let b = double(y); drop a; b
+  catch e then go double(y)
+fun failed(x: list, n: num): list = let a = double(x); drop a; raise n
+fun start(x: list, y: list): list = go middle(x, y)
+fun middle(x: list, y: list): list = let a = both(x, y); drop a; go ending()
+fun ending(): list = let a = cell(1); let b = cell(2); drop a; b
 """)
 LEAF = ("node", "leaf", (True,))
 TREE = ("node", "fork", (LEAF, row([1, 2]), ("node", "fork", (LEAF, row([3]), LEAF))))
 CALLS = [("keeps", [row([1, 2]), 3]), ("goes", [row([1, 2]), 3]), ("tries", [row([1]), 3]), ("makes", [row([1]), 3]),
          ("around", [row([1]), 3]), ("inside", [row([1, 2]), 3]), ("saved", [row([4]), 3]), ("walk", [TREE, 3]),
-         ("ever", [row([4]), 3]), ("beyond", [3]), ("lost", [3]), ("turn", [row([1, 2, 3]), NIL])]
+         ("ever", [row([4]), 3]), ("beyond", [3]), ("lost", [3]), ("both", [row([1, 2]), row([3, 4, 5])]), ("held", [row([1, 2]), row([3, 4, 5]), 6]),
+         ("caught", [row([1, 2]), row([3, 4, 5]), 6]), ("start", [row([1, 2]), row([3, 4, 5])]), ("turn", [row([1, 2, 3]), NIL])]
 
 
 class SlacksTest(Checks, unittest.TestCase):
@@ -86,17 +97,30 @@ class SlacksTest(Checks, unittest.TestCase):
                     self.assertEqual(told, sorted(told))
             heads |= {step_of(PROGRAM, state[0])[0] for state in trace(PROGRAM, name, arguments, hand, 200) if len(state) == 4}
         self.assertEqual(heads, {"num", "make", "take", "call", "go", "keep", "use", "usego", "drop", "raise", "try",
-                                 "end", "deed"} - {"num"})
+                                 "end", "deed"})
 
     def test_goes_count_once_for_a_function(self):
         # Of a bill with more than is needed at a go, what is more goes on being asked for.
-        names = {name: number for number, name in enumerate(self.names())}
-        _, bill, _, _ = least_bill(PROGRAM, "lost", [3])
-        bill = [(amount[0] + 6 * amount[1], amount[1]) if name[1:] == ("lost", "wants") else amount
-                for name, amount in zip(names, bill)]
-        told = self.check(PROGRAM, bill, "lost", [3], 10, 200)
-        self.assertEqual(told, sorted(told))
-        self.assertGreater(len(told), 8)
+        names = self.names()
+        lists = [row([1, 2]), row([3, 4, 5])]
+        for name, arguments in (("lost", [3]), ("start", lists)):
+            _, bill, _, _ = least_bill(PROGRAM, name, arguments)
+            bill = [(amount[0] + 6 * amount[1], amount[1]) if own[1:] == (name, "wants") else amount
+                    for own, amount in zip(names, bill)]
+            told = self.check(PROGRAM, bill, name, arguments, 100, 300)
+            self.assertEqual(told, sorted(told))
+            self.assertGreater(len(told), 8)
+            # More than is wanted is asked for until the function ends.
+            more = least_bill(PROGRAM, name, arguments)[1]
+            less = self.check(PROGRAM, more, name, arguments, 94, 300)
+            self.assertEqual(told[0], less[0])
+
+    def test_funds_of_what_frames_keep(self):
+        _, bill, total, _ = least_bill(PROGRAM, "both", [row([1, 2]), row([3, 4, 5])])
+        # Each part brings one, and a frame keeps the second list.
+        self.assertEqual(total, (6, 1))
+        told = self.check(PROGRAM, bill, "both", [row([1, 2]), row([3, 4, 5])], 6, 300)
+        self.assertEqual(told[:4], [0] * 4)
 
     def names(self):
         return list(Told(PROGRAM, bill_or_refusal(PROGRAM)[1]).rates)
