@@ -28,7 +28,7 @@ class Asking:
 
     def __init__(self, program, bill):
         self.tariff = Tariff(program)
-        self.rates, self.scale = scaled(bill)
+        self.amounts, self.scale = scaled(bill)
         # By the numbers of functions: their accounts, and the hands at their rows.
         self.accounts = {}
         self.hands = {}
@@ -47,7 +47,7 @@ class Asking:
     def hands_of(self, account):
         """Return the list of the hands at the rows of a function."""
         hands = [0] * len(account.plan.rows)
-        hands[0] = self.rates[account.own.wants]
+        hands[0] = self.amounts[account.own.wants]
         for at, ends in enumerate(account.plan.links):
             for end, (pairs, whole) in zip(ends, changes_at(account, at)):
                 hands[end] = hands[at] + whole * self.scale + self.worth(pairs)
@@ -55,7 +55,7 @@ class Asking:
 
     def worth(self, pairs):
         """Return the sum of the rates of unknowns, each so often."""
-        return sum([self.rates[number] * often for number, often in pairs])
+        return sum([self.amounts[number] * often for number, often in pairs])
 
     def fund(self, account, names, bound):
         """Return the sum of the funds of names of a function that are bound to things."""
@@ -78,7 +78,7 @@ class Asking:
         account, row = self.account_of(plan), reading.row()
         if row[0] not in CALLING:
             return 0, 0
-        more = self.hands[plan.number][at] - self.rates[account.called(row).wants]
+        more = self.hands[plan.number][at] - self.amounts[account.called(row).wants]
         if row[0] not in KEEPING:
             return 0, more
         kept = self.fund(account, plan.kept[at], reading.bound)

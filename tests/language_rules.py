@@ -37,6 +37,8 @@ UNUSED_NAMES = set(
     " breakpoint builtins compile copyright credits delattr dir eval exec exit gc globals help id"
     " importlib license locals methodcaller os quit type vars sys _cold _record".split())
 
+STRICT_NAMES = set("register mro elements open input law version_info with_traceback add_note".split())
+
 UNUSED_WORDS = set(
     "typing typing_extensions enum Enum IntEnum StrEnum Flag IntFlag Generic Protocol ABC ABCMeta"
     " namedtuple NamedTuple TypedDict TYPE_CHECKING abstractmethod".split())
@@ -278,6 +280,27 @@ def look_at_cycles(files):
     return []
 
 
+def look_at_names_of_methods(files):
+    """A name is either a method's or an attribute's; a property's is nobody else's."""
+    methods, attributes, properties, found = {}, set(), set(), []
+    for file in files:
+        for node in ast.walk(file.tree):
+            if isinstance(node, ast.FunctionDef) and isinstance(file.parents[node], ast.ClassDef):
+                methods.setdefault(node.name, []).append(f"{file.name}:{node.lineno}")
+                if any(ast.unparse(own) == "property" for own in node.decorator_list):
+                    properties.add(node.name)
+            if isinstance(node, ast.Attribute) and isinstance(node.ctx, ast.Store):
+                attributes.add(node.attr)
+            if isinstance(node, ast.FunctionDef) and node.name in UNUSED_NAMES:
+                found.append(f"{file.name}:{node.lineno}: L17 the name {node.name}")
+            if isinstance(node, ast.Attribute) and node.attr in STRICT_NAMES:
+                found.append(f"{file.name}:{node.lineno}: L17 the attribute {node.attr}")
+    for name, places in methods.items():
+        if name in attributes or (name in properties and len(places) > 1):
+            found.append(f"{places[0]}: L18 {name} is more than a method")
+    return found
+
+
 def broken_rules():
     """Return what was found, as a list of strings."""
     found = []
@@ -298,4 +321,4 @@ def broken_rules():
         look_at_loops(file)
         look_at_words(file)
         found.extend(file.found)
-    return found + look_at_cycles(files)
+    return found + look_at_cycles(files) + look_at_names_of_methods(files)

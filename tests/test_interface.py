@@ -39,6 +39,21 @@ INTERFACE = {
     "live": ["how_many_steps(program, name)", "alive(program, name)"],
     "pairing": ["pairing(program, name)", "is_pairing(program, name, value)",
                 "is_full(program, name, pairs)", "saved(program, name, pairs)"],
+    "homes": ["homes(program, name, pairs)", "is_homes(program, name, pairs, value)",
+              "most_at_once(program, name, pairs)"],
+    "moves": ["moves(shuffle, spare)", "is_moves(shuffle, spare, value)", "rings(shuffle)",
+              "fewest_moves(shuffle)"],
+    "codegen": ["code_of(program, name)", "code_with(program, name, pairs, homes)", "listing(program)"],
+    "rows": ["is_listing(program, value)"],
+    "machine": ["Machine(program, listing, name, arguments, cells)",
+                "run(program, listing, name, arguments, cells, rows)"],
+    "forest": ["is_forest(picture)"],
+}
+
+# The methods of each class, with their arguments, and what is read of its objects.
+CLASSES = {
+    "machine": ("Machine", ["step(self)", "run(self, rows)", "available(self)", "picture(self)", "copy(self)",
+                            "__eq__(self, other)"], ["outcome", "place", "many"]),
 }
 
 
@@ -53,6 +68,16 @@ class InterfaceTest(unittest.TestCase):
                     thing = getattr(found, name)
                     self.assertEqual(name + str(inspect.signature(thing)), row)
                     self.assertEqual(thing.__module__, "cellbills." + module)
+
+    def test_methods(self):
+        for module, (name, rows, parts) in CLASSES.items():
+            found = getattr(importlib.import_module("cellbills." + module), name)
+            for row in rows:
+                with self.subTest(module=module, row=row):
+                    method = vars(found)[row[:row.index("(")]]
+                    self.assertEqual(method.__name__ + str(inspect.signature(method)), row)
+            for part in parts:
+                self.assertIn(part, vars(found))
 
 
 if __name__ == "__main__":
