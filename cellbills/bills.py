@@ -38,7 +38,8 @@ class Solution:
 
     def __init__(self, program, counts):
         self.rows = inequalities_of(program)
-        self.total = Tariff(program).total
+        tariff = Tariff(program)
+        self.total, self.priced = tariff.total, tariff.priced
         self.telling = telling_rows(self.rows)
         bounds = [counts.get(number, 0) for number in range(self.total)]
         self.tableau = Tableau(bounds, [self.rows[number][1:] for number in self.telling])

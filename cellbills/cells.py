@@ -106,6 +106,14 @@ class Store:
             number = link
         return contents, number
 
+    def laid_at(self, number, many):
+        """Return the contents of so many cells that were laid, and the link of the last."""
+        contents = []
+        for _ in range(many):
+            contents.extend(self.contents[number])
+            number = self.links[number]
+        return contents, number
+
     def copied(self):
         """Return another store with the same cells."""
         other = Store(0)

@@ -2,13 +2,13 @@
 
 from cellbills.cells import Store, laid_in
 from cellbills.checker import ask_program, function_number
+from cellbills.copies import flat_functions
 from cellbills.errors import InvalidNumber, InvalidRows
 from cellbills.leaps import do_row
 from cellbills.numbers import is_count
 from cellbills.printer import new_declaration
 from cellbills.reading import ask_arguments
 from cellbills.rows import SLOTS, is_listing_of
-from cellbills.steps import rows_of
 from cellbills.tables import table_of
 from cellbills.values import cells_of
 
@@ -22,20 +22,14 @@ class Book:
     def __init__(self, program, listing):
         # Bodies are held as rows, which do not stand within one another and hold no lists.
         self.kinds = [new_declaration(row) for row in program[1]]
-        self.functions = flat_functions(program)
+        self.functions = flat_functions(program[2])
         self.rows = {name: list(rows) for name, rows in listing}
         heads = table_of(program).heads
         self.heads = {name: len(kinds) for name, (kinds, _) in heads.items()}
 
     def is_of(self, program):
         """Tell whether it is that of what is known to be a program."""
-        return self.kinds == program[1] and self.functions == flat_functions(program)
-
-
-def flat_functions(program):
-    """Return the functions of a program with the rows of their bodies."""
-    return [(name, list(parameters), answer, rows_of(body))
-            for name, parameters, answer, body in program[2]]
+        return self.kinds == program[1] and self.functions == flat_functions(program[2])
 
 
 def ask_machine(program, listing, name, arguments, cells):

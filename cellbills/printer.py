@@ -94,18 +94,19 @@ def step_parts(row, ends):
 
 
 def body_lines(body):
-    """Return the lines of a body."""
+    """Return the lines of a body, and for each step the number of the line with which it begins."""
     rows = rows_of(body)
     links = links_of(rows)
-    lines, waiting = [], [(2, 0)]
+    lines, starts, waiting = [], [0] * len(rows), [(2, 0)]
     while waiting:
         blanks, part = waiting.pop()
         if isinstance(part, str):
             lines.append(" " * blanks + part)
         else:
+            starts[part] = len(lines)
             parts = step_parts(rows[part], links[part])
             waiting.extend([(blanks + more, own) for more, own in parts[::-1]])
-    return lines
+    return lines, starts
 
 
 def written(program):
@@ -114,7 +115,7 @@ def written(program):
     lines = [declaration_line(declaration) for declaration in program[1]]
     for function in program[2]:
         lines.append(head_line(function))
-        lines.extend(body_lines(function[3]))
+        lines.extend(body_lines(function[3])[0])
     return "".join([line + "\n" for line in lines])
 
 

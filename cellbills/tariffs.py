@@ -37,6 +37,8 @@ class Tariff:
         self.functions = {}
         for name, (kinds, answer) in self.table.heads.items():
             self.functions[name] = Signature(self, kinds, answer)
+        # Those of signatures stand ahead of those of makes.
+        self.priced = self.total
         self.makes = [self.tables_of_makes(rows_of(function[3])) for function in program[2]]
 
     def new_numbers(self, many):

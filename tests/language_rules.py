@@ -210,7 +210,12 @@ def look_at_statements(file):
             file.tell("L7", node.lineno, "a /")
         if isinstance(node, ast.GeneratorExp):
             file.tell("L7", node.lineno, "a generator expression; take a list")
-        if isinstance(node, (ast.Yield, ast.YieldFrom, ast.Lambda, ast.Set, ast.SetComp)):
+        if isinstance(node, ast.Yield):
+            # A statement of its own, in a loop of a method.
+            around = file.parents[file.parents[node]]
+            if not isinstance(file.parents[node], ast.Expr) or not isinstance(around, ast.For):
+                file.tell("L23", node.lineno, "a yield that is no statement in a loop")
+        if isinstance(node, (ast.YieldFrom, ast.Lambda, ast.Set, ast.SetComp)):
             file.tell("L23", node.lineno, f"{type(node).__name__}: look at the rules first")
         if isinstance(node, ast.Compare):
             for op, side in zip(node.ops, node.comparators):
