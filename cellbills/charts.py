@@ -1,4 +1,4 @@
-"""Charts: where the steps of a function stand among its rows, its homes, and its lines."""
+"""Charts: where the steps of a function stand among its rows, and its homes; lines of steps."""
 
 from cellbills.checker import function_number
 from cellbills.codegen import paired_coder
@@ -10,7 +10,7 @@ from cellbills.steps import places_of_rows
 class Chart:
     """A function of a program, whose code is that of the listing."""
 
-    def __init__(self, number, function, lines_ahead):
+    def __init__(self, number, function):
         self.coder = paired_coder(function)
         self.firsts = self.coder.firsts
         layout = self.coder.layout
@@ -18,9 +18,6 @@ class Chart:
         self.places = places_of_rows(layout.links, (1, number, 0))
         self.alive = free_by_rows(layout.rows)
         self.kept = layout.kept
-        # The line of the function itself stands ahead of those of its body.
-        starts = body_lines(function[3])[1]
-        self.lines = [lines_ahead + 2 + start for start in starts]
 
     def step_with(self, at):
         """Return the number of the step of which a row is one."""
@@ -44,12 +41,16 @@ class Charts:
         """Return the chart of the function with a name."""
         if name not in self.charts:
             number = function_number(self.source, name)
-            ahead = lines_ahead_of(self.source, number)
-            self.charts[name] = Chart(number, self.source[2][number], ahead)
+            self.charts[name] = Chart(number, self.source[2][number])
         return self.charts[name]
 
 
-def lines_ahead_of(program, number):
-    """Return how many lines stand ahead of the function with a number in the text of a program."""
-    bodies = [len(body_lines(function[3])[0]) for function in program[2][:number]]
-    return len(program[1]) + sum(bodies) + len(bodies)
+def lines_by_names(program):
+    """Return a dict with the list of the lines of the steps of each function of a program."""
+    ahead, found = len(program[1]), {}
+    for name, _, _, body in program[2]:
+        lines, starts = body_lines(body)
+        # The line of the function itself stands ahead of those of its body.
+        found[name] = [ahead + 2 + start for start in starts]
+        ahead += 1 + len(lines)
+    return found

@@ -2,13 +2,12 @@
 
 from cellbills.acts import is_hollow
 from cellbills.cells import thing_in
-from cellbills.charts import Charts, lines_ahead_of
+from cellbills.charts import Charts, lines_by_names
 from cellbills.checker import ask_program, function_number, steps_to
 from cellbills.codegen import paired_coder
 from cellbills.errors import InvalidRows
 from cellbills.leaps import cells_for
 from cellbills.machine import MOST_CELLS, Machine
-from cellbills.printer import body_lines
 from cellbills.steps import links_of, row_at, rows_of
 
 
@@ -95,9 +94,8 @@ def line_of(program, place):
     """Return the number of the line of a written program with which a step begins."""
     ask_program(program)
     steps_to(program, place)
-    body = program[2][place[1]][3]
-    at = row_at(links_of(rows_of(body)), place)
-    return lines_ahead_of(program, place[1]) + 2 + body_lines(body)[1][at]
+    name, _, _, body = program[2][place[1]]
+    return lines_by_names(program)[name][row_at(links_of(rows_of(body)), place)]
 
 
 def standing(program, machine):
@@ -107,8 +105,7 @@ def standing(program, machine):
     at = step_of_machine(charts, machine)
     if at is None:
         return None
-    found = []
-    for name, row, _ in frames_within(machine)[::-1]:
-        chart = charts.of(name)
-        found.append((name, chart.lines[chart.step_with(row)]))
-    return found + [(machine.name, charts.of(machine.name).lines[at])]
+    lines = lines_by_names(program)
+    found = [(name, lines[name][charts.of(name).step_with(row)])
+             for name, row, _ in frames_within(machine)[::-1]]
+    return found + [(machine.name, lines[machine.name][at])]

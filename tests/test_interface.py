@@ -48,12 +48,24 @@ INTERFACE = {
     "machine": ["Machine(program, listing, name, arguments, cells)",
                 "run(program, listing, name, arguments, cells, rows)"],
     "forest": ["is_forest(picture)"],
+    "units": ["is_unit(value)", "alone(unit)", "misfit(units)", "linked(units)", "parted(program, lots)"],
+    "faces": ["prices(unit)", "inner_numbers(unit, row)", "face(unit)", "is_face(unit, value)", "keeps(face, row)",
+              "face_sums(unit, numbers, least)", "cut(unit, row)", "faces_bill(units)", "unlet(elder, newer)"],
+    "linker": ["is_file(value)", "unit_file(unit)", "files_linked(files)"],
+    "where": ["first_rows(program, name)", "where(program, machine)", "to_next_step(program, machine)",
+              "line_of(program, place)", "standing(program, machine)"],
+    "workshop": ["Workshop()"],
 }
 
 # The methods of each class, with their arguments, and what is read of its objects.
 CLASSES = {
     "machine": ("Machine", ["step(self)", "run(self, rows)", "available(self)", "picture(self)", "copy(self)",
                             "__eq__(self, other)"], ["outcome", "place", "many"]),
+    "workshop": ("Workshop", ["units(self)", "unit(self, name)", "each(self)", "put(self, unit)", "strike(self, name)",
+                              "together(self, deeds, *, keep=True)", "undo(self)", "redo(self)", "log(self)", "made(self)",
+                              "copy(self)", "misfit(self)", "program(self)", "code(self)", "bill(self)",
+                              "run(self, name, arguments, cells, rows)", "__len__(self)", "__contains__(self, name)",
+                              "__iter__(self)", "__eq__(self, other)"], []),
 }
 
 
