@@ -146,12 +146,12 @@ def step_rows(coder, at):
 
 def note_firsts(coder):
     """Note the numbers of the first rows of the steps."""
-    total = 0
-    for at in range(len(coder.firsts)):
+    firsts, total = [], 0
+    for at in range(len(coder.layout.rows)):
+        firsts.append(total)
         # How many rows there are doesn't hang on the places that stand in them.
-        many = len(step_rows(coder, at))
-        coder.firsts[at] = total
-        total += many
+        total += len(step_rows(coder, at))
+    coder.firsts = firsts
 
 
 def coder_of(layout, told):
@@ -163,7 +163,7 @@ def coder_of(layout, told):
 
 def code_by(coder):
     """Return the list of all rows that a coder tells."""
-    return [row for at in range(len(coder.firsts)) for row in step_rows(coder, at)]
+    return [row for at in range(len(coder.layout.rows)) for row in step_rows(coder, at)]
 
 
 def paired_coder(function):

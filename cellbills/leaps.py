@@ -32,34 +32,40 @@ def link_content(number):
     return ("cell", number) if number else None
 
 
+def gathered_for(machine, row):
+    """Return why a push or a handle can't be done, or None, and the contents that it lays.
+
+    If it can be done, nodes and kept functions leave their registers.
+    """
+    found = gathered(machine.slots, row[-1])
+    if found is None:
+        return STUCK, None
+    if not machine.store.has(cells_for(row)):
+        return WANT, None
+    leave(machine.slots, found[1])
+    return None, found[0]
+
+
 def act_push(machine, row):
     """Do a push."""
-    found = gathered(machine.slots, row[3])
-    if found is None:
-        return STUCK
-    if not machine.store.has(cells_for(row)):
-        return WANT
-    leave(machine.slots, found[1])
-    mark = ("frame", machine.name, machine.at)
-    machine.frame = machine.store.lay(mark, found[0], machine.frame)
-    machine.at += 1
-    return None
+    why, contents = gathered_for(machine, row)
+    if why is None:
+        mark = ("frame", machine.name, machine.at)
+        machine.frame = machine.store.lay(mark, contents, machine.frame)
+        machine.at += 1
+    return why
 
 
 def act_handle(machine, row):
     """Do a handle."""
-    found = gathered(machine.slots, row[5])
-    if found is None:
-        return STUCK
-    if not machine.store.has(cells_for(row)):
-        return WANT
-    leave(machine.slots, found[1])
-    mark = ("handler", machine.name, machine.at)
-    ahead = (link_content(machine.frame), link_content(machine.handler))
-    machine.handler = machine.store.lay(mark, ahead + found[0], 0)
-    machine.frame = 0
-    machine.at += 1
-    return None
+    why, contents = gathered_for(machine, row)
+    if why is None:
+        mark = ("handler", machine.name, machine.at)
+        ahead = (link_content(machine.frame), link_content(machine.handler))
+        machine.handler = machine.store.lay(mark, ahead + contents, 0)
+        machine.frame = 0
+        machine.at += 1
+    return why
 
 
 def act_jump(machine, row):

@@ -81,25 +81,22 @@ def head_of(function):
     return name, [kind for _, kind in parameters], answer
 
 
+def first_twice(word, pairs):
+    """Return (word, unit, name) of the first pair (name, unit) whose name stands ahead, or None."""
+    names = {}
+    for name, unit in pairs:
+        if name in names:
+            return word, unit, name
+        names[name] = True
+    return None
+
+
 def misfit_names(units):
-    """Return what tells that two units have one name, or None."""
-    names = {}
-    for unit in units:
-        if unit[1] in names:
-            return "unit", unit[1], unit[1]
-        names[unit[1]] = True
-    return None
-
-
-def misfit_functions(units):
-    """Return what tells that two functions have one name, or None."""
-    names = {}
-    for unit in units:
-        for function in unit[4]:
-            if function[0] in names:
-                return "function", unit[1], function[0]
-            names[function[0]] = True
-    return None
+    """Return what tells that two units or two functions have one name, or None."""
+    why = first_twice("unit", [(unit[1], unit[1]) for unit in units])
+    if why is not None:
+        return why
+    return first_twice("function", [(function[0], unit[1]) for unit in units for function in unit[4]])
 
 
 def misfit_kinds(units):
@@ -144,8 +141,6 @@ def misfit_taken(units):
 def misfit_of(units):
     """Return the first thing by which what is known to be units does not fit, or None."""
     why = misfit_names(units)
-    if why is None:
-        why = misfit_functions(units)
     if why is None:
         why = misfit_kinds(units)
     if why is None:
