@@ -169,7 +169,10 @@ def do_row(machine):
     if machine.at == len(machine.rows):
         return STUCK
     row = machine.rows[machine.at]
-    act = ACTS[row[0]] if row[0] in ACTS else LEAPS[row[0]]
+    if row[0] in ACTS:
+        act = ACTS[row[0]]
+    else:
+        act = LEAPS[row[0]]
     outcome = act(machine, row)
     if outcome is None or len(outcome) == 2:
         machine.done += 1

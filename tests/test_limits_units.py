@@ -19,7 +19,7 @@ from tests.some_units import Told
 from tests.test_limits_machine import BIG
 from tests.test_units import unit
 
-SECONDS = 10
+SECONDS = 30
 ONE = [("choice", "k", [("c", [])])]
 
 
