@@ -6,7 +6,7 @@ from cellbills.judged import is_bill_of, is_refusal_of, sum_by, summed_least, su
 from cellbills.ratios import are_amounts, fraction
 from cellbills.reading import ask_arguments
 from cellbills.rules import inequalities_of
-from cellbills.simplex import Tableau
+from cellbills.simplex import Tableau, amounts_of, bound_prices, endless_amounts
 from cellbills.tariffs import Tariff
 
 
@@ -55,22 +55,15 @@ class Solution:
 
     def refusal(self):
         """Return the amounts of inequalities that make their sum grow without end."""
-        amounts = {self.endless: (1, 1)}
-        for line in self.tableau.lines:
-            if self.endless in line.counts:
-                amounts[line.own] = fraction(-line.counts[self.endless], line.below)
-        return self.spread(amounts)
+        return self.spread(endless_amounts(self.tableau, self.endless))
 
     def paper(self):
         """Return the amounts of inequalities that make their sum the greatest."""
-        lines = self.tableau.lines
-        return self.spread({line.own: fraction(line.right, line.below) for line in lines})
+        return self.spread(amounts_of(self.tableau))
 
     def bill(self):
         """Return the least amounts of unknowns, which are the prices of their bounds."""
-        goal = self.tableau.goal
-        prices = {number: fraction(often, goal.below) for number, often in goal.counts.items()}
-        return placed(prices, self.total)
+        return bound_prices(self.tableau)
 
     def least(self):
         """Return the sum that the bill tells."""

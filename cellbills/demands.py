@@ -7,7 +7,7 @@ how often each demand is taken.
 
 from cellbills.ratios import fraction, scaled
 from cellbills.rules import inequalities_of
-from cellbills.simplex import Tableau
+from cellbills.simplex import Tableau, amounts_of, bound_prices, endless_amounts
 from cellbills.tariffs import Tariff
 from cellbills.units import alone_of
 
@@ -45,21 +45,6 @@ def amounts_behind(tableau, amounts, many):
     return [amounts.get(tableau.bounds + at, (0, 1)) for at in range(many)]
 
 
-def endless_amounts(tableau, endless):
-    """Return the dict of the amounts by variables that make a sum grow without end."""
-    amounts = {endless: (1, 1)}
-    for line in tableau.lines:
-        if endless in line.counts:
-            amounts[line.own] = fraction(-line.counts[endless], line.below)
-    return amounts
-
-
-def prices_of_bounds(tableau):
-    """Return the list of the prices of the bounds, by which all rows hold."""
-    goal = tableau.goal
-    return [fraction(goal.counts.get(number, 0), goal.below) for number in range(tableau.bounds)]
-
-
 def inner_or_sums(demands, row):
     """Return the list of inner numbers that go with a row of prices, or None; and sums, or None.
 
@@ -74,7 +59,7 @@ def inner_or_sums(demands, row):
     endless = tableau.solve()
     if endless is not None:
         return None, amounts_behind(tableau, endless_amounts(tableau, endless), len(rows))
-    return [fraction(above, below * scale) for above, below in prices_of_bounds(tableau)], None
+    return [fraction(above, below * scale) for above, below in bound_prices(tableau)], None
 
 
 def let_row(demands):
@@ -82,7 +67,7 @@ def let_row(demands):
     tableau = Tableau([0] * demands.total, demands.rows)
     if tableau.solve() is not None:
         return None
-    return prices_of_bounds(tableau)[:demands.prices]
+    return bound_prices(tableau)[:demands.prices]
 
 
 def summed_tuple(demands, sums):
@@ -126,8 +111,7 @@ class Question:
         """Return how often each demand is taken, None if the tuple is not asked for."""
         if self.tableau.goal.right == 0:
             return None
-        amounts = {line.own: fraction(line.right, line.below) for line in self.tableau.lines}
-        return amounts_behind(self.tableau, amounts, len(self.demands.rows))
+        return amounts_behind(self.tableau, amounts_of(self.tableau), len(self.demands.rows))
 
     def against(self):
         """Return prices and a number: what bears out that the tuple is not asked for.
@@ -135,7 +119,7 @@ class Question:
         If the number is above 0, the prices divided by it are let and fall short of the tuple;
         if it is 0, so do any that are let with the prices added often enough.
         """
-        found = prices_of_bounds(self.tableau)
+        found = bound_prices(self.tableau)
         return found[:self.demands.prices], found[self.demands.total]
 
 

@@ -12,6 +12,8 @@ by numbers: first the room that is left below the bounds, behind it the amounts 
 
 from math import gcd
 
+from cellbills.ratios import fraction
+
 # So many steps that bring nothing are let before the way of choosing is changed.
 PATIENCE = 30
 
@@ -138,3 +140,23 @@ def is_sooner(line, other, enters):
         if left * more != right * one:
             return left * more < right * one
     return line.own < other.own
+
+
+def amounts_of(tableau):
+    """Return the dict of the amounts by variables that make the sum the greatest."""
+    return {line.own: fraction(line.right, line.below) for line in tableau.lines}
+
+
+def endless_amounts(tableau, endless):
+    """Return the dict of the amounts by variables that make the sum grow without end."""
+    amounts = {endless: (1, 1)}
+    for line in tableau.lines:
+        if endless in line.counts:
+            amounts[line.own] = fraction(-line.counts[endless], line.below)
+    return amounts
+
+
+def bound_prices(tableau):
+    """Return the list of the prices of the bounds, by which all rows hold."""
+    goal = tableau.goal
+    return [fraction(goal.counts.get(number, 0), goal.below) for number in range(tableau.bounds)]
