@@ -80,6 +80,12 @@ class CodegenTest(Checks, unittest.TestCase):
                    ("test", 2, 10), ("refill", 5, 0, "cons", (7, 8)), ("refill", 39, 1, "cons", (9, 5)), ("return", 39),
                    ("free", 0), ("free", 1), ("return", 8), pairs=pairs, told=told)
 
+        # The takes in order, though the first one made fills the cell of the last one.
+        self.check(text, ("part", 0, (("nil", (), 1), ("cons", (9, 8), 2))), ("return", 1),
+                   ("part", 1, (("nil", (), 3), ("cons", (7, 6), 5))), ("free", 0), ("return", 8), ("drop", 6),
+                   ("test", 2, 10), ("refill", 5, 1, "cons", (7, 8)), ("refill", 39, 0, "cons", (9, 5)), ("return", 39),
+                   ("free", 0), ("free", 1), ("return", 8), pairs=[(6, 2), (7, 0)], told=told)
+
     def test_goes(self):
         self.check("fun f(): num = go f()", ("jump", "f"))
         self.check("fun f(n: num): num = go f(n)", ("jump", "f"))

@@ -51,6 +51,12 @@ class ForestTest(Checks, unittest.TestCase):
                    picture([("cell", 1)], cells=[one(("cell", 2), link=2), one()]),
                    picture([("cell", 1)], (0, 0, 2), [one(link=2), one()]))
 
+    def test_contents_that_lead_to_no_cell(self):
+        self.wrong(picture([("frame", 1)], cells=[one()]), picture([("bare", 1)], cells=[one()]), picture([("cell", 0)]),
+                   picture([("hollow", 0)]), picture([("cell", 1)], cells=[one(("hollow", 2)), one()]),
+                   picture([("cell", 1)], cells=[one(("frame", 2)), one()]), picture([("cell", 1)], cells=[one(("cell", 0))]),
+                   picture([("cell", 1)]), picture(numbers=(1, 0, 0)), picture([("cell", 2)], cells=[one()]))
+
     def test_round_about(self):
         self.wrong(picture(cells=[one(("cell", 1))]), picture(cells=[one(link=1)]),
                    picture(cells=[one(("cell", 2)), one(("cell", 1))]), picture([("cell", 1)], cells=[one(("cell", 1))]),

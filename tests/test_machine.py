@@ -454,6 +454,11 @@ class LeapTest(Base):
         # Its own cell comes free first, then what stood in the other registers.
         self.assertEqual(machine.picture()[3:], (2, [
             ("cons", (1, BARE), 0), (None, (2, BARE), 3), (None, (), 4), (None, (), 0)]))
+        # What stands right behind the kept function is given back, too.
+        machine = self.made([("move", 3, 1), ("move", 2, 0), ("build", 1, "g", ()), ("num", 0, 3), ("enter", 1)], one, 2)
+        machine.run(5)
+        self.slots(machine, 3)
+        self.assertEqual(machine.picture()[3:], (2, [(None, (1, BARE), 0), (None, (2, BARE), 1)]))
         machine = self.made([("build", 1, "g", ()), ("num", 0, 3), ("enter", 1)])
         machine.run(3)
         self.slots(machine, 3)
@@ -579,6 +584,41 @@ class MachineTest(Base):
         told = [Machine(program, self.listing, "g", [4], 0) for program in (PROGRAM, again, more)]
         self.assertTrue(told[0] == told[1])
         self.assertFalse(told[0] == told[2])
+
+    def test_equality_of_pictures(self):
+        # Another tag, another content, other links alone.
+        program = read_text("""kind list = nil[] | cons[num, list] kind two = one2[num] | other[num]
+            fun f(l: list, m: list, t: two, c: flag): num = drop l; drop m; drop t; 1""")
+        rows = [("f", [("test", 3, 6), ("drop", 0), ("drop", 1), ("drop", 2), ("flag", 3, False), ("test", 3, 11),
+                       ("drop", 1), ("drop", 0), ("drop", 2), ("flag", 3, False), ("test", 3, 11), ("num", 0, 1)])]
+        def made(tag="one2", first=1, flag=True, done=0):
+            machine = Machine(program, rows, "f", [row([first]), row([2]), ("node", tag, (5,)), flag], 4)
+            machine.run(done)
+            return machine
+        self.assertTrue(made() == made())
+        self.assertFalse(made() == made("other"))
+        self.assertFalse(made() == made(first=3))
+        one, other = made(done=6), made(flag=False, done=6)
+        self.assertEqual((one.place, one.many), (other.place, other.many))
+        self.assertEqual(one.picture()[:4], other.picture()[:4])
+        self.assertEqual([own[:2] for own in cells_of(one)], [own[:2] for own in cells_of(other)])
+        self.assertFalse(one == other)
+        # Registers alone.
+        one, other = made(done=1), made(done=1)
+        self.assertTrue(one == other)
+        program = read_text("fun f(n: num, m: num): num = n")
+        one, other = (Machine(program, [("f", [("return", 0)])], "f", own, 3) for own in ([1, 2], [1, 3]))
+        self.assertFalse(one == other)
+        # Another fault, with nothing else left.
+        one, other = (Machine(program, [("f", [("raise", 0)])], "f", own, 3) for own in ([1, 2], [4, 2]))
+        one.step()
+        other.step()
+        self.assertEqual(one.picture(), other.picture())
+        self.assertFalse(one == other)
+        # Another kind that no function names.
+        more = ("program", [("choice", "k", [("m", [])])], program[2])
+        self.assertFalse(Machine(more, [("f", [("return", 0)])], "f", [1, 2], 0)
+                         == Machine(program, [("f", [("return", 0)])], "f", [1, 2], 0))
 
     def test_equality_of_outcomes(self):
         # One that wants or is stuck is unlike one that was not looked at as yet.

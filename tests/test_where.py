@@ -125,6 +125,27 @@ class WhereTest(Base):
         self.assertEqual((machine.outcome, machine.available(), machine.many), (("want",), 1, 3))
         self.is_told_none(program, machine)
 
+    def test_frames_behind_cells_that_come_free(self):
+        # The rows that lay the frames stand behind one that frees a cell, and behind two.
+        program = read_text("""kind list = nil[] | cons[num, list]
+            fun f(x: list, c: flag, n: num): list = match x { nil[]: nil[] cons[h, t]: if c then cons[h, t] else
+            let r = f(t, c, n); cons[h + n, r] }
+            fun g(x: list, y: list, c: flag): list = match x { nil[]: y cons[h, t]: match y { nil[]: t cons[i, u]:
+            if c then cons[h, cons[i, drops(t, u)]] else try r = g(t, u, c) then cons[h, r] catch e then cons[i, nil[]] } }
+            fun k(x: list, y: list, c: flag): list = match x { nil[]: y cons[h, t]: match y { nil[]: t cons[i, u]:
+            if c then let d = h; drop u; let a = cons[h, t]; cons[i, a] else try r = k(t, u, c) then cons[h, r] catch e then
+            cons[i, nil[]] } }
+            fun drops(x: list, y: list): list = drop x; y""")
+        rows = listing(program)
+        words = [[word[0] for word in own] for _, own in rows]
+        self.assertTrue(any(own[at:at + 2] == ["free", "push"] for own in words for at in range(len(own))))
+        self.assertTrue(any(own[at:at + 3] == ["free", "free", "handle"] for own in words for at in range(len(own))))
+        for name, arguments in (("f", [THREE, False, 1]), ("g", [THREE, row([4, 5]), False]), ("k", [THREE, row([4, 5]), False]),
+                                ("k", [THREE, THREE, True])):
+            least = peak(program, name, arguments, 100)
+            for hand in (least, least + 5):
+                self.along(program, rows, name, arguments, hand, 60)
+
     def test_cells_that_are_hollow(self):
         machine = self.made("turn", [row([1, 2]), NIL], 3)
         self.assertEqual(where(PROGRAM, machine)[1:], ([("x", row([1, 2])), ("y", NIL)], [], 3))
@@ -175,6 +196,11 @@ class WhereTest(Base):
             self.assertIs(caught.exception.value, theirs)
             with self.assertRaises(InvalidRows):
                 call(other, machine)
+            # Another kind that no function names, another order of functions, another body.
+            for near in (("program", PROGRAM[1] + [("choice", "more", [("more1", [])])], PROGRAM[2]),
+                         ("program", PROGRAM[1], PROGRAM[2][1:] + PROGRAM[2][:1]),
+                         ("program", PROGRAM[1], PROGRAM[2][:-1] + [PROGRAM[2][-1][:3] + (("end", "n"),)])):
+                self.refused(call, InvalidRows, 1, near, machine)
         # A program that is equal is the same.
         self.assertEqual(where(("program", list(PROGRAM[1]), list(PROGRAM[2])), machine), where(PROGRAM, machine))
         for odd in ODD:

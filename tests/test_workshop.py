@@ -319,6 +319,8 @@ class WorkshopTest(Base):
         for odd in ODD + [one.units(), list(one.each())]:
             self.assertFalse(one == odd)
             self.assertFalse(odd == one)
+        self.assertFalse(self.holding(unit("u")) == self.holding(unit("v")))
+        self.assertEqual(self.holding(unit("u"), unit("v")).made(), 2)
         renamed = ("unit", "ua", UA[2], UA[3], [("turn", [("p", "list"), ("q", "list")]) + read_text(
             "fun turn(p: list, q: list): list = match p { nil[]: q cons[h, t]: go turn(t, cons[h, q]) }")[2][0][2:]])
         self.assertFalse(self.holding(UA) == self.holding(renamed))
