@@ -2,6 +2,7 @@
 
 import random
 from fractions import Fraction
+from math import gcd
 
 from cellbills.names import functions_in
 from cellbills.rules import inequalities, unknowns
@@ -40,14 +41,14 @@ class Told:
 
     def holds(self, row, inner):
         """Tell whether prices and inner numbers keep all demands."""
-        if len(inner) != self.inner or not all(above >= 0 for above, _ in row + inner):
+        if len(inner) != self.inner or not are_amounts(inner):
             return False
         numbers = [Fraction(*own) for own in row + inner]
         return all(sum(often * numbers[at] for at, often in counts.items()) >= least for counts, least in self.rows)
 
     def is_paper(self, numbers, least, sums):
         """Tell whether demands, each so many times, sum to what a tuple of a face needs."""
-        if len(sums) != len(self.rows) or not all(above >= 0 for above, _ in sums):
+        if len(sums) != len(self.rows) or not are_amounts(sums):
             return False
         total = [0] * (self.prices + self.inner)
         for (counts, _), often in zip(self.rows, sums):
@@ -56,6 +57,11 @@ class Told:
         told = sum(own * Fraction(*often) for (_, own), often in zip(self.rows, sums))
         return (told >= least and all(own <= 0 for own in total[self.prices:])
                 and all(own <= number for own, number in zip(total, numbers)))
+
+
+def are_amounts(values):
+    """Tell whether values are fractions from 0 on in least terms."""
+    return all(above >= 0 and below > 0 and gcd(above, below) == 1 for above, below in values)
 
 
 def value_of(numbers, row):
