@@ -158,6 +158,8 @@ class FaceTest(Checks, unittest.TestCase):
         for tuples in ([([1, 0, 0], 1)], [([0, -1, 0], 0)], [([1, 0, 0], 5), ([-1, 0, 0], -5)]):
             self.is_told(False, is_face, LOOP, tuples)
             self.is_told(False, is_face, NONE, tuples)
+        for tuples in ([([0, 0], 0)], [([0, 0, 0, 0], 0)], [([], 0)], [([0, 0, 0], 0), ([0, 0], 0)]):
+            self.is_told(False, is_face, NONE, tuples)
         self.is_told(True, is_face, unit(), [])
         self.is_told(True, is_face, unit(), [([], 0)])
         self.is_told(False, is_face, unit(), [([], 1)])

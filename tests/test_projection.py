@@ -3,6 +3,7 @@
 import random
 import unittest
 from fractions import Fraction
+from math import gcd
 
 from cellbills.demands import Demands, Question, asks_for, demands_of_tuples, inner_or_sums, let_row
 from cellbills.faces import keeps, row_against, tuples_of, without_sums
@@ -115,6 +116,18 @@ class ProjectionTest(unittest.TestCase):
                 self.assertFalse(asks_for(others, *fewer[at]))
             for own in fewer:
                 self.assertFalse(any(follows_from(own, other) for other in fewer if other != own))
+
+    def test_more_tuples_than_a_face_may_have(self):
+        # Sums of two, none of which follows from a single one: only together they ask for it.
+        base = [([(0, 1), (1, -1)], 0), ([(1, 1), (2, -1)], 0), ([(0, -1), (2, 2)], 0)]
+        pairs = [(one, other) for one in range(1, 40) for other in range(1, 40) if gcd(one, other) == 1][:610]
+        sums = [([(0, one), (1, other - one), (2, -other)], 0) if one != other else ([(0, 1), (2, -1)], 0)
+                for one, other in pairs]
+        demands = Demands(sums + base, 3, 3)
+        told = tuples_of(demands)
+        self.assertLessEqual(len(told), 600)
+        wanted = [([1, -1, 0], 0), ([0, 1, -1], 0), ([-1, 0, 2], 0)]
+        self.assertEqual(sorted(told), sorted(wanted))
 
     def test_rows_against_tuples(self):
         seen = {True: 0, False: 0}
